@@ -5,6 +5,15 @@ import "firn/api"
 // replyHead is how many bytes a reply has ahead of its numbers: its error, and their count.
 const replyHead = 3
 
+// Reply writes an error and numbers as a reply.
+func Reply(told api.Errno, numbers []int) string {
+	reply := []byte{byte(told), byte(len(numbers) >> 8), byte(len(numbers))}
+	for _, n := range numbers {
+		reply = appendNumber(reply, uint32(n))
+	}
+	return string(reply)
+}
+
 // Numbers tells a reply's numbers and its error; and whether it is a reply.
 func Numbers(reply string) ([]int, api.Errno, api.Errno) {
 	if len(reply) < replyHead {
