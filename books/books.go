@@ -13,10 +13,6 @@ type Books struct {
 	limit int
 }
 
-// Empty books take limit boxes, tubes and pairs of which one was poured into the
-// other, together.
-func Empty(limit int) Books { return Books{limit: limit} }
-
 // Do does a command, and tells what it answers. Behind an error the books are as
 // they were.
 func (b *Books) Do(c api.Command) ([]int, api.Errno) {

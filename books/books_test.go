@@ -11,7 +11,7 @@ func TestLimit(t *testing.T) {
 	tube := api.Command{Kind: api.Register, Tube: 1, Donor: 1, Volume: 10, Box: 1}
 	aliquot := api.Command{Kind: api.Aliquot, Tube: 1, Other: 2, Volume: 5, Box: 1, X: 1}
 	content := api.Command{Kind: api.Content, Box: 1}
-	b := Empty(3)
+	b, _ := Read("", 3)
 	for _, step := range []struct {
 		command api.Command
 		want    api.Errno

@@ -25,6 +25,12 @@ func (t tube) numbers() []int {
 	return []int{t.donor, t.began, t.left, t.used, t.lost, t.status, t.thaws, t.box, t.x(), t.y()}
 }
 
+// tubeSize is how many bytes a tube's text has, sideSize that of a box.
+const (
+	tubeSize = 6 + 4*volumeSize
+	sideSize = 1
+)
+
 // text is the record as it lies in the tree: the numbers that have a byte each,
 // then the volumes.
 func (t tube) text() string {

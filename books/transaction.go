@@ -29,6 +29,12 @@ func tubeKey(number int) uint32 { return tubeKeys | uint32(number) }
 
 func pourKey(from, to int) uint32 { return pourKeys | uint32(from)<<numberBits | uint32(to) }
 
+// numbersIn is pourKey backwards; a box's and a tube's key has its number as the second one.
+func numbersIn(key uint32) (int, int) {
+	const mask = 1<<numberBits - 1
+	return int(key >> numberBits & mask), int(key & mask)
+}
+
 // side tells 0, if there is no such box.
 func (t *transaction) side(box int) int {
 	text, isThere := t.Get(boxKey(box))
@@ -115,8 +121,7 @@ func (t *transaction) pairs() iter.Seq2[int, int] {
 	all := t.Range(pourKey(1, 1), pourKey(api.MaxTube, api.MaxTube))
 	return func(yield func(int, int) bool) {
 		for key := range all {
-			from, to := (key-pourKeys)>>numberBits, key&(1<<numberBits-1)
-			if !yield(int(from), int(to)) {
+			if !yield(numbersIn(key)) {
 				return
 			}
 		}

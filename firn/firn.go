@@ -2,19 +2,20 @@
 package firn
 
 import (
-	"strings"
-
 	"firn/api"
 	"firn/books"
+	"firn/disk"
 	"firn/wire"
 )
 
 // sectorsPerEntry is how many sectors of a disk there are for each box, each tube,
-// and each pair of which one was poured into the other.
+// and each pair of which one was poured into the other. The longest record has less
+// than one sector: there is always room for them all in each half of the disk.
 const sectorsPerEntry = 8
 
-// Ledger is the books.
+// Ledger is the books, and the disk on which they stand.
 type Ledger struct {
+	disk  disk.Disk
 	books books.Books
 }
 
@@ -29,15 +30,15 @@ func Numbers(reply string) ([]int, api.Errno, api.Errno) { return wire.Numbers(r
 
 // Open finds a ledger in an image (P5).
 func Open(image string) (*Ledger, []api.Write, api.Errno) {
-	sectors := len(image) / api.Sector
-	if len(image)%api.Sector != 0 || sectors < api.MinSectors || sectors > api.MaxSectors {
+	d, text, isThere := disk.Find(image)
+	if !isThere {
 		return nil, nil, api.ErrImage
 	}
-	// As long as nothing is written, what has anything on it is no ledger's disk.
-	if strings.Trim(image, "\x00") != "" {
+	b, isThere := books.Read(text, len(image)/api.Sector/sectorsPerEntry)
+	if !isThere {
 		return nil, nil, api.ErrImage
 	}
-	return &Ledger{books: books.Empty(sectors / sectorsPerEntry)}, nil, api.OK
+	return &Ledger{disk: d, books: b}, nil, api.OK
 }
 
 // Do does what a frame says: the reply, and what is to be written (P4).
@@ -47,5 +48,9 @@ func (l *Ledger) Do(frame string) (string, []api.Write) {
 		return wire.Reply(e, nil), nil
 	}
 	numbers, e := l.books.Do(c)
-	return wire.Reply(e, numbers), nil
+	reply := wire.Reply(e, numbers)
+	if e != api.OK || c.Kind >= api.Show {
+		return reply, nil
+	}
+	return reply, l.disk.Keep(l.books.Text())
 }

@@ -42,6 +42,7 @@ func plays(t *testing.T, play func(t *testing.T, s *store, p player)) {
 	for _, sectors := range []int{16, 17, 23, 24, 40, 63, 64, 128, 200, 255, 256} {
 		for seed := range int64(12) {
 			t.Run(strconv.Itoa(sectors)+"/"+strconv.FormatInt(seed, 10), func(t *testing.T) {
+				t.Parallel()
 				p := player{r: rand.New(rand.NewSource(seed)), names: some[2*seed:], boxes: 1 + int(seed)%3}
 				play(t, newStore(t, sectors), p)
 			})
@@ -56,18 +57,24 @@ func TestPlay(t *testing.T) {
 		for range 800 {
 			step(s, m, p.command(m))
 		}
-		for n := 1; n <= api.MaxTube; n++ {
-			step(s, m, show(n))
-			step(s, m, up(n))
-			step(s, m, down(n))
-		}
-		for n := 1; n <= api.MaxBox; n++ {
-			step(s, m, content(n))
-		}
-		for n := 1; n <= api.MaxDonor; n++ {
-			step(s, m, of(n))
-		}
+		wantModel(s, m)
 	})
+}
+
+// wantModel asks for all that the model has.
+func wantModel(s *store, m model) {
+	s.t.Helper()
+	for n := 1; n <= api.MaxTube; n++ {
+		step(s, m, show(n))
+		step(s, m, up(n))
+		step(s, m, down(n))
+	}
+	for n := 1; n <= api.MaxBox; n++ {
+		step(s, m, content(n))
+	}
+	for n := 1; n <= api.MaxDonor; n++ {
+		step(s, m, of(n))
+	}
 }
 
 // account is what the commands that were done poured, by their own words.
@@ -197,6 +204,9 @@ func TestAnyBytes(t *testing.T) {
 		_, e := firn.Decode(string(frame))
 		if is != api.OK || (told == api.ErrFrame) != (e == api.ErrFrame) {
 			t.Fatalf("Do(%q) = %q", frame, text)
+		}
+		if told != api.OK && len(writes) > 0 {
+			t.Fatalf("Do(%q) = %q, and writes %d times", frame, text, len(writes))
 		}
 	}
 }

@@ -20,21 +20,33 @@ type store struct {
 // newStore has an empty disk of so many sectors.
 func newStore(t *testing.T, sectors int) *store {
 	t.Helper()
-	s := &store{t: t, image: make([]byte, sectors*api.Sector)}
+	return openStore(t, make([]byte, sectors*api.Sector))
+}
+
+// openStore has a disk with this image.
+func openStore(t *testing.T, image []byte) *store {
+	t.Helper()
+	s := &store{t: t, image: slices.Clone(image)}
+	s.open()
+	return s
+}
+
+// open finds the ledger again on its disk.
+func (s *store) open() {
+	s.t.Helper()
 	ledger, writes, e := firn.Open(string(s.image))
 	if e != api.OK || ledger == nil {
-		t.Fatalf("Open of an empty disk of %d sectors: %d", sectors, e)
+		s.t.Fatalf("Open of a disk of %d sectors: %d", len(s.image)/api.Sector, e)
 	}
 	s.ledger = ledger
 	s.write(writes)
-	return s
 }
 
 // write holds writes against the document's words, and makes them.
 func (s *store) write(writes []api.Write) {
 	s.t.Helper()
 	for _, w := range writes {
-		if w.Sector == -1 {
+		if w.Sector == -1 && w.Data == "" {
 			continue
 		}
 		if w.Sector < 0 || w.Sector >= len(s.image)/api.Sector || len(w.Data) != api.Sector {

@@ -5,8 +5,8 @@ import (
 	"slices"
 )
 
-// maxEntries is how many entries a node may have: few enough that those of a leaf
-// would lie in one sector.
+// maxEntries is how many entries a node may have: few, since whatever is put into
+// it makes a copy of them.
 const maxEntries = 5
 
 // node has at least one entry, by rising keys. It is never changed, since several
