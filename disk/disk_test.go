@@ -173,6 +173,39 @@ func TestLossAsTurnsGrow(t *testing.T) {
 	}
 }
 
+// tornHead is the image on which all of these writes were made, but of the head just
+// some first bytes.
+func tornHead(image []byte, writes []api.Write, first int) []byte {
+	image = slices.Clone(image)
+	head := writes[len(writes)-2]
+	for _, w := range writes[:len(writes)-2] {
+		if w.Sector != -1 {
+			copy(image[w.Sector*api.Sector:], w.Data)
+		}
+	}
+	copy(image[head.Sector*api.Sector:], head.Data[:first])
+	return image
+}
+
+// A head is torn, and so is the next one, which comes to lie on what is left of it.
+func TestLossBehindLossAsTurnsGrow(t *testing.T) {
+	for _, turn := range []uint64{2, 3, 0xff, 0x100, 0x101, 0x10000, 0x10001, 1 << 32, 0, 1} {
+		d := Disk{sectors: 16, turn: turn - 3}
+		image := made(t, empty(16), d.Keep("eldest"))
+		image = made(t, image, d.Keep("old"))
+		writes := d.Keep(strings.Repeat("new", 50))
+		for first := range api.Sector {
+			one := tornHead(image, writes, first)
+			found := wantFound(t, one, "old")
+			others := found.Keep("other")
+			for second := range api.Sector {
+				wantFound(t, tornHead(one, others, second), "old")
+			}
+			wantFound(t, made(t, one, others), "other")
+		}
+	}
+}
+
 func TestTurnsGoRound(t *testing.T) {
 	d := Disk{sectors: 16, turn: math.MaxUint64 - 5}
 	image := made(t, empty(16), d.Keep("first"))

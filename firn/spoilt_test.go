@@ -78,12 +78,14 @@ func spoil(image []byte, try func([]byte)) {
 }
 
 func TestSpoiltBitsAndBytes(t *testing.T) {
+	t.Parallel()
 	for _, image := range [][]byte{written(t), make([]byte, 16*api.Sector)} {
 		spoil(image, func(spoilt []byte) { wantSome(t, spoilt) })
 	}
 }
 
 func TestSpoiltSectors(t *testing.T) {
+	t.Parallel()
 	r := rand.New(rand.NewSource(1))
 	image := written(t)
 	sectors := len(image) / api.Sector
@@ -100,6 +102,7 @@ func TestSpoiltSectors(t *testing.T) {
 }
 
 func TestSpoiltMuch(t *testing.T) {
+	t.Parallel()
 	r := rand.New(rand.NewSource(2))
 	image := written(t)
 	for range 2000 {
@@ -112,6 +115,47 @@ func TestSpoiltMuch(t *testing.T) {
 			spoilt[at] ^= 1 << r.Intn(8)
 		}
 		wantSome(t, spoilt)
+	}
+}
+
+// A worse disk leaves what no loss of power does: of a sector the last bytes, or just
+// those in the midst of it; and what is behind a flush without what is ahead of it.
+func TestWorseLosses(t *testing.T) {
+	t.Parallel()
+	r := rand.New(rand.NewSource(5))
+	s := openStore(t, written(t))
+	for _, c := range []api.Command{use(10, 1), newBox(3, 1), withdraw(1)} {
+		u := begin(s, c, nil)
+		for range 1000 {
+			left := slices.Clone(s.image)
+			for _, w := range chosen(u.writes, func(int) bool { return r.Intn(2) == 0 }) {
+				from, to := r.Intn(api.Sector), r.Intn(api.Sector+1)
+				if w.Sector != -1 && from < to {
+					copy(left[w.Sector*api.Sector+from:], w.Data[from:to])
+				}
+			}
+			wantSome(t, left)
+		}
+		s.write(u.writes)
+	}
+}
+
+// Sectors of several times lie beside one another.
+func TestSectorsOfSeveralTimes(t *testing.T) {
+	t.Parallel()
+	r := rand.New(rand.NewSource(6))
+	s := openStore(t, written(t))
+	times := [][]byte{make([]byte, len(s.image)), slices.Clone(s.image)}
+	for _, c := range []api.Command{use(10, 1), newBox(3, 1), turn(1, 1), pour(10, 20, 1), take(10), withdraw(1)} {
+		s.do(c)
+		times = append(times, slices.Clone(s.image))
+	}
+	for range 3000 {
+		var mixed []byte
+		for at := 0; at < len(s.image); at += api.Sector {
+			mixed = append(mixed, times[r.Intn(len(times))][at:at+api.Sector]...)
+		}
+		wantSome(t, mixed)
 	}
 }
 
@@ -145,6 +189,7 @@ func TestOtherLengths(t *testing.T) {
 
 // Whatever text is kept as a ledger's, with all that tells that it is whole.
 func TestSpoiltTexts(t *testing.T) {
+	t.Parallel()
 	r := rand.New(rand.NewSource(4))
 	_, text, _ := disk.Find(string(written(t)))
 	found := 0
