@@ -28,11 +28,12 @@ func Find(image string) (Disk, string, bool) {
 	if len(image)%api.Sector != 0 || d.sectors < api.MinSectors || d.sectors > api.MaxSectors {
 		return Disk{}, "", false
 	}
-	h, isThere := d.newest(image)
-	if !isThere {
+	half := d.newest(image)
+	h, isHead := readHead(image[d.first(half)*api.Sector:][:api.Sector])
+	if !isHead || h.turn%halves != half || h.length > d.room() {
 		return Disk{}, "", false
 	}
-	text := image[(d.first(h.turn)+1)*api.Sector:][:h.length]
+	text := image[(d.first(half)+1)*api.Sector:][:h.length]
 	if sumOf(text) != h.sum {
 		return Disk{}, "", false
 	}
@@ -40,21 +41,19 @@ func Find(image string) (Disk, string, bool) {
 	return d, text, true
 }
 
-// newest is the head of the last turn that was written to its end.
-func (d Disk) newest(image string) (head, bool) {
-	var newest head
-	found := false
-	for half := range uint64(halves) {
-		h, isHead := readHead(image[d.first(half)*api.Sector:][:api.Sector])
-		if !isHead || h.turn%halves != half || h.length > d.room() {
-			continue
-		}
-		// What is ahead by less than half of all turns is newer, though they may go round.
-		if !found || int64(h.turn-newest.turn) > 0 {
-			newest, found = h, true
-		}
+// newest is the half that was kept last. The marks of both alone tell it: so nothing
+// that lies in the other half is asked, however it came there, and nothing that is
+// written there is, until its head has lasted to the last byte.
+func (d Disk) newest(image string) uint64 {
+	if d.mark(image, 1) == d.mark(image, 0)+1 {
+		return 1
 	}
-	return newest, found
+	return 0
+}
+
+// mark is the last byte of a half's head: the lowest one of its turn.
+func (d Disk) mark(image string, half uint64) byte {
+	return image[(d.first(half)+1)*api.Sector-1]
 }
 
 // first is the sector of the head of a turn.

@@ -216,7 +216,8 @@ func TestTurnsGoRound(t *testing.T) {
 	}
 }
 
-// What was kept is not found, if a bit of it is another one; nor is it with another head.
+// What was kept is not found, if a bit of it is another one; nor is it with another
+// head. Just the last byte of a head tells which half it is.
 func TestSpoilt(t *testing.T) {
 	r := rand.New(rand.NewSource(3))
 	text := anyText(r, 200)
@@ -228,17 +229,101 @@ func TestSpoilt(t *testing.T) {
 	for at := range len(image) * 8 {
 		image[at/8] ^= 1 << (at % 8)
 		switch at := at / 8; {
-		case at >= half && at < half+api.Sector: // as if the head had been torn
-			if at < half+8 || at >= half+24 {
-				wantFound(t, image, text)
-			}
-		case at >= half+api.Sector && at < half+api.Sector+len(text)+3:
+		case at == half+api.Sector-1: // as if the head had been torn
+			wantFound(t, image, text)
+		case at == api.Sector-1:
+			wantNone(t, image)
+		case at >= half && at < half+api.Sector+len(text)+3:
 			wantNone(t, image)
 		default:
 			wantFound(t, image, text+"new")
 		}
 		image[at/8] ^= 1 << (at % 8)
 	}
+}
+
+// wantEachLoss asks, if there is a text, that it or the next one is found wherever the
+// next one's head is torn, and tells whether there is.
+func wantEachLoss(t *testing.T, image []byte) bool {
+	t.Helper()
+	d, old, isThere := Find(string(image))
+	if !isThere {
+		return false
+	}
+	writes := d.Keep("new")
+	for first := range api.Sector {
+		_, text, isThere := Find(string(tornHead(image, writes, first)))
+		if !isThere || text != old && text != "new" {
+			t.Fatalf("a head torn behind %d bytes: found %v, %q, want %q", first, isThere, text, old)
+		}
+	}
+	wantFound(t, made(t, image, writes), "new")
+	return true
+}
+
+// turnsToTry are those at which a number of the turn comes to have more bytes, and others.
+func turnsToTry() []uint64 {
+	return []uint64{0, 1, 2, 3, 0xfe, 0xff, 0x100, 0x101, 0xffff, 0x10000, 1<<56 - 1, 1 << 56, math.MaxUint64 - 1, math.MaxUint64}
+}
+
+// Whatever lies in the half that is written next, the text of earlier is not lost.
+func TestLossOverAnything(t *testing.T) {
+	r := rand.New(rand.NewSource(5))
+	for _, turn := range turnsToTry() {
+		d := Disk{sectors: 16, turn: turn - 1}
+		image := made(t, empty(16), d.Keep("old"))
+		other := image[d.first(turn+1)*api.Sector:][:8*api.Sector]
+		found := 0
+		for last := range 256 {
+			r.Read(other)
+			other[api.Sector-1] = byte(last)
+			if wantEachLoss(t, image) {
+				found++
+			}
+		}
+		if want := 255 - 254*int(turn%2); found != want {
+			t.Errorf("turn %d: found %d times, want %d", turn, found, want)
+		}
+	}
+}
+
+// The same, where parts of a head lie there, of whichever turn and text.
+func TestLossOverPartsOfHeads(t *testing.T) {
+	texts := []head{{}, {length: 3}, {length: 3, sum: sumOf("new")}, {length: 5000, sum: 7}, {length: 5, sum: 7}, {length: math.MaxUint64, sum: math.MaxUint64}}
+	found := 0
+	for _, turn := range turnsToTry() {
+		for _, ahead := range []uint64{1, 3, 257, 1<<56 + 1} {
+			for _, h := range texts {
+				for _, h.turn = range []uint64{turn + ahead, turn - ahead} {
+					found += loseOverHead(t, turn, h)
+				}
+			}
+		}
+	}
+	if found < 3000 {
+		t.Errorf("just %d times was there anything to lose", found)
+	}
+}
+
+// loseOverHead lays a head over the half that is written next, with other bytes ahead
+// of each of some places, and tells how often there was a text.
+func loseOverHead(t *testing.T, turn uint64, h head) int {
+	t.Helper()
+	found := 0
+	d := Disk{sectors: 16, turn: turn - 2}
+	image := made(t, empty(16), d.Keep("eldest"))
+	image = made(t, image, d.Keep("old"))
+	other := image[d.first(turn+1)*api.Sector:][:api.Sector]
+	eldest := string(other)
+	for _, from := range []int{0, 1, 8, 16, 120, 127} {
+		for _, ahead := range []string{eldest, strings.Repeat("\x01", api.Sector)} {
+			copy(other, ahead[:from]+h.text()[from:])
+			if wantEachLoss(t, image) {
+				found++
+			}
+		}
+	}
+	return found
 }
 
 // A head may tell of more than there is room for, or of the other half's turn.

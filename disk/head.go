@@ -12,8 +12,8 @@ type head struct {
 	turn, length, sum uint64
 }
 
-// text has the turn at both of its ends. Since a sector is written from its first
-// byte on, one that was written in part has a turn of earlier at its end.
+// text ends with the turn. Since a sector is written from its first byte on, the last
+// one stays that of a turn of earlier, until all of it has lasted.
 func (h head) text() string {
 	ahead := numberText(h.turn) + numberText(h.length) + numberText(h.sum)
 	behind := numberText(h.turn)

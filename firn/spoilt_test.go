@@ -192,6 +192,7 @@ func TestSpoiltTexts(t *testing.T) {
 	t.Parallel()
 	r := rand.New(rand.NewSource(4))
 	_, text, _ := disk.Find(string(written(t)))
+	v, commands := glance([]int{10, 20, 30, 40, 50}, 3, 3), every()
 	found := 0
 	for range 5000 {
 		spoilt := []byte(text)
@@ -207,6 +208,7 @@ func TestSpoiltTexts(t *testing.T) {
 		wantSome(t, s.image)
 		if _, isOne := books.Read(string(spoilt), api.MaxSectors); isOne {
 			found++
+			wantStands(t, r, s.image, v, commands[r.Intn(len(commands))])
 		}
 	}
 	if found == 0 {
